@@ -1,0 +1,1 @@
+"""Turnkin: turnings of places, and all that come of a few of them."""
