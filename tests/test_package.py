@@ -6,6 +6,8 @@ import unittest
 from importlib import import_module
 from pathlib import Path
 
+from turnkin.house import House
+
 PACKAGE = Path(__file__).resolve().parent.parent / "turnkin"
 FILES = sorted(PACKAGE.glob("*.py"))
 
@@ -17,6 +19,15 @@ INTERFACE = {
         "rings": ["turning"], "is_even": ["turning"], "order": ["turning"], "times": ["turning", "many"],
         "text_of": ["turning"], "read_turning": ["size", "text"],
     },
+    "turnkin.steps": {"made": ["size", "few", "steps"]},
+    "turnkin.ways": {"rounds": ["size", "few"], "way": ["size", "few", "place", "other"]},
+    "turnkin.house": {"House": ["size", "few"]},
+}
+
+HOUSE = {
+    "put": ["turning"], "told": [], "levels": [], "many": [], "kept": ["level", "place"], "has": ["turning"],
+    "fall": ["turning"], "shown": ["turning"], "number": ["turning"], "turning_at": ["number"], "rounds": [],
+    "holds": ["other"], "joined": ["other"], "renamed": ["turning"],
 }
 
 
@@ -33,6 +44,15 @@ class Interface(unittest.TestCase):
             for name in functions:
                 with self.subTest(module=module, name=name):
                     self.assertEqual(getattr(import_module(module), name).__module__, module)
+
+    def test_the_house_defines_each_method_itself(self):
+        for name, arguments in HOUSE.items():
+            with self.subTest(name=name):
+                parameters = inspect.signature(vars(House)[name]).parameters
+                self.assertEqual(list(parameters), ["self", *arguments])
+
+    def test_none_of_the_few_need_not_be_handed_in(self):
+        self.assertIsNone(inspect.signature(House).parameters["few"].default)
 
 
 class Files(unittest.TestCase):

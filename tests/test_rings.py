@@ -2,12 +2,10 @@
 
 import unittest
 
-from helper import NO_TURNINGS, SIZES, Refusing, all_turnings, some_turnings
+from helper import NO_NUMBERS, NO_TURNINGS, SIZES, Refusing, all_turnings, some_turnings
 from turnkin.errors import BadNumber, BadTurning
 from turnkin.rings import is_even, order, rings, times
 from turnkin.turnings import back, behind, staying
-
-NO_NUMBERS = [True, False, None, "", "2", b"2", 2.0, 0.5, 1j, (), (2,), [2], {}, {2}, range(2), int, len, object()]
 
 
 def done_one_by_one(turning, many):

@@ -1,6 +1,6 @@
-"""What is a whole number, and what is a size: asked by the other files."""
+"""What is a whole number, a size and a place: asked by the other files."""
 
-from turnkin.errors import BadSize
+from turnkin.errors import BadPlace, BadSize
 
 MOST_PLACES = 8
 
@@ -20,3 +20,9 @@ def check_size(size):
     """Refuse what is no size."""
     if not is_size(size):
         raise BadSize("a size is a whole number from 1 to 8")
+
+
+def check_place(size, place):
+    """Refuse what is no place of the size."""
+    if not is_whole(place) or not 0 <= place < size:
+        raise BadPlace("a place is a whole number from 0 on, below the size")

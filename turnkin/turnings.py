@@ -27,13 +27,18 @@ def staying(size):
     return tuple(range(size))
 
 
+def done_as_one(one, other):
+    """As behind, of what is known to be two turnings of one size."""
+    return tuple([other[place] for place in one])
+
+
 def behind(one, other):
     """The one turning and then the other one, done as one."""
     check_turning(one)
     check_turning(other)
     if len(one) != len(other):
         raise BadTurning("these turnings are of unlike sizes")
-    return tuple([other[place] for place in one])
+    return done_as_one(one, other)
 
 
 def back(one):
